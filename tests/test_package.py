@@ -1,0 +1,91 @@
+"""The interface as the document lists it, and the rules for files that a test can see."""
+
+import ast
+import importlib
+import inspect
+import os
+import unittest
+
+FOLDER = os.path.join(os.path.dirname(os.path.dirname(os.path.abspath(__file__))), "wordreach")
+
+# Each function of the interface that has landed, with its arguments.
+FUNCTIONS = {
+    "tables": {
+        "is_shape": ("value",),
+        "is_table": ("shape", "value"),
+        "words_of": ("shape", "number"),
+        "number_of": ("shape", "words"),
+        "known_table": ("shape", "name"),
+        "result_bit": ("shape", "table", "place"),
+    },
+    "terms": {
+        "terms": ("shape", "table", "place"),
+        "table_from": ("shape", "rows"),
+        "weight": ("shape", "term"),
+        "light_weight": ("shape", "term"),
+        "counting_bits": ("shape", "table", "place"),
+    },
+}
+
+
+def files():
+    """Return the names of all files of the package; Python itself makes the folder __pycache__."""
+    return sorted(name for name in os.listdir(FOLDER) if name != "__pycache__")
+
+
+def source(name):
+    """Return the text of a file of the package."""
+    with open(os.path.join(FOLDER, name), encoding="utf-8", newline="") as file:
+        return file.read()
+
+
+def functions_of(tree):
+    """Return all functions and methods below a tree."""
+    return [node for node in ast.walk(tree) if isinstance(node, ast.FunctionDef)]
+
+
+class Interface(unittest.TestCase):
+    def test_functions(self):
+        for module, functions in FUNCTIONS.items():
+            found = importlib.import_module("wordreach." + module)
+            for name, arguments in functions.items():
+                with self.subTest(module=module, name=name):
+                    function = getattr(found, name)
+                    self.assertEqual(function.__module__, "wordreach." + module)
+                    parameters = inspect.signature(function).parameters
+                    self.assertEqual(tuple(parameters), arguments)
+                    for parameter in parameters.values():
+                        self.assertIs(parameter.kind, inspect.Parameter.POSITIONAL_OR_KEYWORD)
+
+
+class Files(unittest.TestCase):
+    def test_folder(self):
+        self.assertIn("__init__.py", files())
+        for name in files():
+            with self.subTest(name=name):
+                self.assertTrue(os.path.isfile(os.path.join(FOLDER, name)))
+                self.assertRegex(name, r"^[a-z_]+\.py$")
+
+    def test_characters_and_sizes(self):
+        for name in files():
+            lines = source(name).split("\n")
+            with self.subTest(name=name):
+                self.assertLessEqual(len(lines), 400)
+                self.assertEqual(lines[-1], "")
+                self.assertTrue(all(len(line) <= 120 for line in lines))
+                self.assertTrue(all(" " <= character <= "~" for line in lines for character in line))
+                for function in functions_of(ast.parse(source(name))):
+                    self.assertLessEqual(function.end_lineno - function.lineno + 1, 40, function.name)
+
+    def test_imports(self):
+        library = ("heapq", "math", "itertools", "collections")
+        for name in files():
+            for node in ast.walk(ast.parse(source(name))):
+                self.assertNotIsInstance(node, ast.Import, name)
+                if isinstance(node, ast.ImportFrom):
+                    self.assertEqual(node.level, 0)
+                    self.assertTrue(node.module.startswith("wordreach.") or node.module in library, node.module)
+
+
+if __name__ == "__main__":
+    unittest.main()

@@ -1,0 +1,1 @@
+"""Wordreach: what an instruction set computes on machine words."""
