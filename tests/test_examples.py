@@ -21,6 +21,34 @@ EXAMPLES = (
 >>> (table_from((2, 1), ((1,), (0, 3))), counting_bits((2, 2), carry, 0))
 ((2, 3, 2, 1), 5)
 '''),
+    ("section 6", '''
+>>> from wordreach.sets import instructions_of, is_within, set_names
+>>> (set_names()[:3], instructions_of("monotone up"), is_within("adding", "any up"), is_within("monotone", "adding"))
+(('adding', 'affine', 'affine both'), ('and', 'const', 'mask', 'or', 'up'), True, False)
+'''),
+    ("section 7", '''
+>>> from wordreach.judging import bit_fits, computes, given_bits, least_sets, sets_for
+>>> product = known_table((3, 2), "product")
+>>> (computes("adding", (2, 2), carry), computes("adding", (3, 2), product), given_bits("adding", (3, 2), product), computes("multiplying", (3, 2), product))
+(True, False, 0, True)
+>>> (sets_for((2, 2), carry), least_sets((2, 2), carry), least_sets((2, 2), known_table((2, 2), "and")))
+(('adding', 'any both', 'any up', 'multiplying'), ('adding',), ('monotone',))
+'''),
+    ("section 8", '''
+>>> from wordreach.evidence import evidence_against, shows_against
+>>> (evidence_against("adding", (2, 2), carry), shows_against("adding", (3, 2), product, ("heavy", 0, 9)), shows_against("adding", (2, 2), carry, ("heavy", 1, 5)))
+(None, True, False)
+>>> (shows_against("monotone", (2, 2), carry, ("apart", 1, 0, 5)), shows_against("monotone up", (2, 2), carry, ("falls", 1, 2, 10)))
+(True, True)
+'''),
+    ("section 9", '''
+>>> from wordreach.programs import first_difference, is_of, is_program, run, table_of, values_of, words_used
+>>> double = (("up", 0), ("mask", 2, 2), ("xor", 3, 1))
+>>> (run((2, 2), double, (1, 3)), list(values_of((2, 2), double, (1, 3))), words_used(double), is_of("adding", double))
+(1, [1, 3, 2, 2, 1], ('mask', 'up', 'xor'), True)
+>>> (is_program((2, 1), (("up", 1),)), table_of((2, 1), (("sub", 0, 0),)), first_difference((2, 1), (("up", 0),), (("add", 0, 0), ("mask", 1, 2), ("not", 2))))
+(False, (0, 0, 0, 0), 0)
+'''),
 )
 
 
@@ -56,7 +84,7 @@ class Examples(unittest.TestCase):
                 with self.subTest(section=section, code=code):
                     self.assertEqual(shown(code, names), wanted)
                 count += 1
-        self.assertEqual(count, 7)
+        self.assertEqual(count, 20)
 
     def test_numbers_within_the_text(self):
         names = {}

@@ -25,6 +25,31 @@ FUNCTIONS = {
         "light_weight": ("shape", "term"),
         "counting_bits": ("shape", "table", "place"),
     },
+    "sets": {
+        "set_names": (),
+        "instructions_of": ("name",),
+        "is_within": ("name", "other"),
+    },
+    "judging": {
+        "bit_fits": ("name", "shape", "table", "place"),
+        "given_bits": ("name", "shape", "table"),
+        "computes": ("name", "shape", "table"),
+        "sets_for": ("shape", "table"),
+        "least_sets": ("shape", "table"),
+    },
+    "evidence": {
+        "evidence_against": ("name", "shape", "table"),
+        "shows_against": ("name", "shape", "table", "value"),
+    },
+    "programs": {
+        "is_program": ("shape", "value"),
+        "run": ("shape", "program", "words"),
+        "values_of": ("shape", "program", "words"),
+        "table_of": ("shape", "program"),
+        "words_used": ("program",),
+        "is_of": ("name", "program"),
+        "first_difference": ("shape", "one", "other"),
+    },
 }
 
 
