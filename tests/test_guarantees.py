@@ -63,7 +63,7 @@ class AllPrograms(unittest.TestCase):
                     self.assertEqual({t for t in tables if evidence_against(name, shape, t) is None}, functions)
 
     def test_given_bits_are_those_that_some_program_computes(self):
-        for shape in ((1, 2), (2, 1), (1, 3)):
+        for shape in ((1, 1), (1, 2), (2, 1), (1, 3)):
             width = shape[0]
             tables = all_tables(shape)
             for name in NAMES:
