@@ -1,5 +1,7 @@
 """What sections 6 to 9 say, written apart from the package and as plainly as possible, to compare it with."""
 
+import functools
+
 from tests.values import SHAPES, nested, odd_integers, odd_values, scattered
 
 BASES = {"any": {"and", "or", "xor", "not"}, "monotone": {"and", "or"}, "affine": {"xor", "not"}}
@@ -67,6 +69,12 @@ def may_count(name, place, start):
     return start == place
 
 
+@functools.lru_cache
+def numbers_within(size):
+    """Return for each number below a size the numbers within it: those that have no bit that it does not have."""
+    return tuple(tuple(n for n in range(m + 1) if n | m == m) for m in range(size))
+
+
 class Facts:
     """What is to be known of one result bit: on which bits it depends, whether it falls, and its terms."""
 
@@ -77,7 +85,7 @@ class Facts:
         self.row = [result // 2 ** place % 2 for result in table]
         size = len(self.row)
         self.counting = [bit for bit in range(bits) if any(self.row[n] != self.row[n ^ 2 ** bit] for n in range(size))]
-        within = [[n for n in range(m + 1) if n | m == m] for m in range(size)]
+        within = numbers_within(size)
         self.falls = any(self.row[n] > self.row[m] for m in range(size) for n in within[m])
         self.terms = [m for m in range(size) if sum(self.row[n] for n in within[m]) % 2 == 1]
 

@@ -49,6 +49,30 @@ EXAMPLES = (
 >>> (is_program((2, 1), (("up", 1),)), table_of((2, 1), (("sub", 0, 0),)), first_difference((2, 1), (("up", 0),), (("add", 0, 0), ("mask", 1, 2), ("not", 2))))
 (False, (0, 0, 0, 0), 0)
 '''),
+    ("section 10", '''
+>>> from wordreach.trimming import chained, narrowed, numbered, trimmed
+>>> long = (("up", 0), ("not", 1), ("up", 0), ("add", 2, 4))
+>>> (trimmed(long, inputs=2), numbered(long, inputs=2), narrowed((("mask", 0, 13), ("up", 1)), 2))
+((('up', 0), ('up', 0), ('add', 2, 3)), (('up', 0), ('not', 1), ('add', 2, 2)), (('mask', 0, 1), ('up', 1)))
+>>> chained((("up", 0), ("add", 2, 1)), (("sub", 0, 1), ("not", 2)), inputs=2)
+(('up', 0), ('add', 2, 1), ('sub', 3, 1), ('not', 4))
+'''),
+    ("section 11", '''
+>>> from wordreach.building import part_program, program_for
+>>> table_of((2, 2), program_for("adding", (2, 2), carry)) == carry
+True
+>>> (is_of("adding", program_for("adding", (2, 2), carry)), table_of((2, 2), part_program("affine up", (2, 2), carry))[:6])
+(True, (0, 1, 0, 1, 1, 0))
+>>> program_for("affine up", (2, 2), carry)
+raises NotComputed(value=1)
+'''),
+    ("section 12", '''
+>>> from wordreach.merging import least_place, shows_tree, tree_for
+>>> (least_place((3, 2), 9), least_place((3, 2), 11), shows_tree((3, 2), 11, 2, ("join", ("join", 0, 3), 1)), shows_tree((3, 2), 9, 2, ("raise", ("join", 0, 3))))
+(1, 2, True, True)
+>>> tree_for((3, 2), 11, 1)
+raises TooLow(value=2)
+'''),
 )
 
 
@@ -84,7 +108,7 @@ class Examples(unittest.TestCase):
                 with self.subTest(section=section, code=code):
                     self.assertEqual(shown(code, names), wanted)
                 count += 1
-        self.assertEqual(count, 20)
+        self.assertEqual(count, 31)
 
     def test_numbers_within_the_text(self):
         names = {}

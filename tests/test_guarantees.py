@@ -1,10 +1,11 @@
-"""Section 3: guarantees (a) and (b), as far as sections 6 to 9 reach."""
+"""Section 3: guarantees (a) and (b); tests/test_building.py has those of single tables."""
 
 import unittest
 
 from tests.drawn import NAMES, fitting_terms
 from tests.reference import FORMS, RESULTS, SETS, all_words, drawn_program, table_of_terms
 from tests.values import SHAPES, scattered, scattered_table
+from wordreach.building import part_program, program_for
 from wordreach.evidence import evidence_against, shows_against
 from wordreach.judging import bit_fits, computes, given_bits, sets_for
 from wordreach.programs import is_of, is_program, table_of
@@ -113,6 +114,9 @@ class DrawnPrograms(unittest.TestCase):
         self.assertEqual(given_bits(name, shape, table), 2 ** shape[0] - 1, (name, shape, program))
         self.assertIs(computes(name, shape, table), True)
         self.assertIsNone(evidence_against(name, shape, table))
+        built = program_for(name, shape, table)
+        self.assertIs(is_of(name, built), True)
+        self.assertEqual(table_of(shape, built), table)
         return table
 
     def test_a_program_of_a_set_computes_what_fits_it(self):
@@ -141,6 +145,20 @@ class DrawnPrograms(unittest.TestCase):
                         ("heavy", place, a),
                     ):
                         self.assertIs(shows_against(name, shape, table, value), False)
+
+    def test_the_bits_that_a_program_gives(self):
+        # Whatever bits of a table a program of the set computes are given, and one program has all of them.
+        for shape in ((2, 2), (3, 1), (3, 2), (4, 1)):
+            other = scattered_table(shape, 8)
+            for k, name in enumerate(NAMES):
+                program = drawn_program(SETS[name], shape, 9, k)
+                for bits in range(2 ** shape[0]):
+                    table = tuple(a & bits | b & ~bits for a, b in zip(table_of(shape, program), other))
+                    given = given_bits(name, shape, table)
+                    self.assertEqual(given & bits, bits)
+                    part = part_program(name, shape, table)
+                    self.assertIs(is_of(name, part), True)
+                    self.assertEqual(table_of(shape, part), tuple(result & given for result in table))
 
     def test_the_sets_of_a_program_compute_it(self):
         for shape in ((2, 2), (3, 2), (4, 1)):

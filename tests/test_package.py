@@ -8,7 +8,7 @@ import unittest
 
 FOLDER = os.path.join(os.path.dirname(os.path.dirname(os.path.abspath(__file__))), "wordreach")
 
-# Each function of the interface that has landed, with its arguments.
+# Each function of the interface that has landed, with its arguments; those behind a * are passed by name alone.
 FUNCTIONS = {
     "tables": {
         "is_shape": ("value",),
@@ -50,6 +50,21 @@ FUNCTIONS = {
         "is_of": ("name", "program"),
         "first_difference": ("shape", "one", "other"),
     },
+    "trimming": {
+        "trimmed": ("program", "*", "inputs"),
+        "numbered": ("program", "*", "inputs"),
+        "narrowed": ("program", "width"),
+        "chained": ("first", "second", "*", "inputs"),
+    },
+    "building": {
+        "program_for": ("name", "shape", "table"),
+        "part_program": ("name", "shape", "table"),
+    },
+    "merging": {
+        "least_place": ("shape", "term"),
+        "tree_for": ("shape", "term", "place"),
+        "shows_tree": ("shape", "term", "place", "value"),
+    },
 }
 
 
@@ -77,10 +92,17 @@ class Interface(unittest.TestCase):
                 with self.subTest(module=module, name=name):
                     function = getattr(found, name)
                     self.assertEqual(function.__module__, "wordreach." + module)
-                    parameters = inspect.signature(function).parameters
-                    self.assertEqual(tuple(parameters), arguments)
-                    for parameter in parameters.values():
-                        self.assertIs(parameter.kind, inspect.Parameter.POSITIONAL_OR_KEYWORD)
+                    self.check_arguments(function, arguments)
+
+    def check_arguments(self, function, arguments):
+        """Check the names of all arguments, and that just those behind a * are passed by name alone."""
+        parameters = inspect.signature(function).parameters
+        self.assertEqual(tuple(parameters), tuple(name for name in arguments if name != "*"))
+        by_name = arguments[arguments.index("*") + 1:] if "*" in arguments else ()
+        for name, parameter in parameters.items():
+            kind = inspect.Parameter.KEYWORD_ONLY if name in by_name else inspect.Parameter.POSITIONAL_OR_KEYWORD
+            self.assertIs(parameter.kind, kind, name)
+            self.assertIs(parameter.default, inspect.Parameter.empty, name)
 
 
 class Files(unittest.TestCase):

@@ -48,10 +48,15 @@ def table_from(shape, rows):
     return tuple([word_at(columns, number) for number in range(table_size(shape))])
 
 
+def bits_of(shape, term):
+    """Return the input bits of a term, ascending."""
+    return [bit for bit in range(input_bits(shape)) if (term >> bit) & 1 == 1]
+
+
 def places_of(shape, term):
     """Return the places of the bits of a term, a place once for each bit."""
     width = shape[0]
-    return [bit % width for bit in range(input_bits(shape)) if (term >> bit) & 1 == 1]
+    return [bit % width for bit in bits_of(shape, term)]
 
 
 def weight(shape, term):
