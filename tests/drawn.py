@@ -1,7 +1,10 @@
-"""Tables that look random, tables that fit a set, and tables that fit it but for one bit or one term."""
+"""Tables that look random, that fit a set, or that fit it but for one bit or one term; expressions for programs."""
+
+import operator
 
 from tests.reference import SETS, Facts, may_count, table_of_terms
 from tests.values import scattered, scattered_table
+from wordreach.expressions import constant, input_words
 from wordreach.tables import known_table
 
 KNOWN = ("first", "reversed", "ones", "sum", "product", "greatest", "least", "and", "or", "xor")
@@ -84,5 +87,33 @@ def tables_for(name, shape):
     """Return tables to judge a set by: some that fit, and some that fit but for a part."""
     return [fitting_table(name, shape, 5), fitting_table(name, shape, 17)] + bent_tables(name, shape, 29)
 
+
+def led(shape, step, values):
+    """Return the expression that has the operator of an instruction, from the expressions for all earlier values."""
+    word, *operands = step
+    if word == "const":
+        return constant(shape, operands[0])
+    one = values[operands[0]]
+    if word == "mask":
+        return one & operands[1]
+    if word == "not":
+        return ~one
+    return MOVES[word](one, 1) if word in MOVES else BETWEEN[word](one, values[operands[1]])
+
+
+def led_along(shape, program):
+    """Return the expressions for all values of a program, the input words first."""
+    values = list(input_words(shape))
+    for step in program:
+        values.append(led(shape, step, values))
+    return values
+
+
+# The operators of expressions, by the words of the instructions that they denote.
+BETWEEN = {
+    "and": operator.and_, "or": operator.or_, "xor": operator.xor,
+    "add": operator.add, "sub": operator.sub, "mul": operator.mul,
+}
+MOVES = {"up": operator.lshift, "down": operator.rshift}
 
 NAMES = tuple(sorted(SETS))

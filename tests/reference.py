@@ -151,20 +151,24 @@ def is_evidence(name, shape, table, value):
     return name in ("adding", "multiplying") and not facts.term_fits(name, numbers[0]) and numbers[0] in facts.terms
 
 
+def is_step(shape, index, step):
+    """Return whether a value is the instruction of a program at an index."""
+    if type(step) is not tuple or step == () or type(step[0]) is not str or step[0] not in FORMS:
+        return False
+    form = FORMS[step[0]]
+    if len(step) != 1 + len(form):
+        return False
+    return all(
+        is_whole(operand) and operand in range(shape[1] + index if kind == "v" else 2 ** shape[0])
+        for kind, operand in zip(form, step[1:])
+    )
+
+
 def is_program(shape, value):
     """Return whether a value is a program, as section 9 says."""
     if type(value) is not tuple or value == ():
         return False
-    for index, step in enumerate(value):
-        if type(step) is not tuple or step == () or type(step[0]) is not str or step[0] not in FORMS:
-            return False
-        form = FORMS[step[0]]
-        if len(step) != 1 + len(form):
-            return False
-        for kind, operand in zip(form, step[1:]):
-            if not is_whole(operand) or operand not in range(shape[1] + index if kind == "v" else 2 ** shape[0]):
-                return False
-    return True
+    return all(is_step(shape, index, step) for index, step in enumerate(value))
 
 
 def all_values(shape, program, words):

@@ -73,6 +73,41 @@ raises NotComputed(value=1)
 >>> tree_for((3, 2), 11, 1)
 raises TooLow(value=2)
 '''),
+    ("section 13", '''
+>>> from wordreach.counting import count_functions, count_monotone, count_terms
+>>> ([count_monotone(bits) for bits in range(5)], count_terms("adding", (2, 2), 1), count_terms("multiplying", (2, 2), 1))
+([2, 3, 6, 20, 168], 6, 12)
+>>> (count_functions("affine", (1, 2)), count_functions("adding", (2, 2)), count_functions("monotone up", (2, 1)))
+(8, 512, 18)
+'''),
+    ("section 14", '''
+>>> from wordreach.expressions import constant, input_words
+>>> x, y = input_words((2, 2))
+>>> mixed = (x & y) | (x & 2)
+>>> ((x + y).table == carry, mixed((3, 1)), mixed[1][:4], "or" in mixed, "add" in mixed)
+(True, 3, (0, 0, 1, 1), True, False)
+>>> (x ^ x == constant((2, 2), 0), (x & y).lies_in(x), bool(x - x), (~x)((1, 0)), (3 - x)((1, 0)), (x << 1)((3, 0)))
+(True, True, False, 2, 2, 2)
+>>> x + 4
+raises InvalidOperand(value=4)
+'''),
+    ("section 15", r'''
+>>> from wordreach.formats import format_evidence, format_program, format_table, parse_program, parse_table
+>>> (format_program(double), format_table((0, 3)), format_evidence(("heavy", 0, 9)), parse_program((2, 1), "up 0\nadd 0 1"))
+('up 0\nmask 2 2\nxor 3 1', '0 3', 'heavy 0 9', (('up', 0), ('add', 0, 1)))
+>>> parse_program((2, 1), "up 0\nadd 0 2")
+raises ParseError(index=1)
+>>> parse_table((1, 1), "0 1 1")
+raises ParseError(index=2)
+'''),
+    ("section 16", '''
+>>> from wordreach.session import Session
+>>> session = Session((2, 2))
+>>> [session.run("add 0 1"), session.run("mask 2 2"), session.run("call 1 1"), session.run("bits affine-up"), session.run("undo"), session.run("show")]
+['2', '3', '2', '1', 'done', 'add 0 1']
+>>> session.run("up 7")
+raises InvalidOperand(value=7)
+'''),
 )
 
 
@@ -108,7 +143,7 @@ class Examples(unittest.TestCase):
                 with self.subTest(section=section, code=code):
                     self.assertEqual(shown(code, names), wanted)
                 count += 1
-        self.assertEqual(count, 31)
+        self.assertEqual(count, 48)
 
     def test_numbers_within_the_text(self):
         names = {}

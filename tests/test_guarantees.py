@@ -1,14 +1,21 @@
-"""Section 3: guarantees (a) and (b); tests/test_building.py has those of single tables."""
+"""Section 3: the guarantees, where they tie several sections together.
+
+Guarantee (d) is tested in tests/test_trimming.py, guarantee (e) in tests/test_merging.py.
+"""
 
 import unittest
 
-from tests.drawn import NAMES, fitting_terms
+from tests.drawn import NAMES, bent_tables, fitting_table, fitting_terms, flipped, general_tables, led_along
 from tests.reference import FORMS, RESULTS, SETS, all_words, drawn_program, table_of_terms
 from tests.values import SHAPES, scattered, scattered_table
 from wordreach.building import part_program, program_for
+from wordreach.counting import count_functions
+from wordreach.errors import NotComputed
 from wordreach.evidence import evidence_against, shows_against
+from wordreach.formats import format_evidence, format_program, format_table, parse_program, parse_table
 from wordreach.judging import bit_fits, computes, given_bits, sets_for
 from wordreach.programs import is_of, is_program, table_of
+from wordreach.session import Session
 
 
 def moved(shape, word, tables):
@@ -60,6 +67,7 @@ class AllPrograms(unittest.TestCase):
             for name in NAMES:
                 functions = reached(name, shape)
                 with self.subTest(shape=shape, name=name):
+                    self.assertEqual(len(functions), count_functions(name, shape))
                     self.assertEqual({table for table in tables if computes(name, shape, table)}, functions)
                     self.assertEqual({t for t in tables if evidence_against(name, shape, t) is None}, functions)
 
@@ -81,6 +89,7 @@ class AllPrograms(unittest.TestCase):
         for name, many in (("monotone", 36), ("affine", 64), ("affine up", 256), ("affine down", 256), ("adding", 512)):
             functions = reached(name, (2, 2))
             self.assertEqual(len(functions), many)
+            self.assertEqual(count_functions(name, (2, 2)), many)
             for table in functions:
                 self.assertIs(computes(name, (2, 2), table), True)
                 self.assertIsNone(evidence_against(name, (2, 2), table))
@@ -103,6 +112,7 @@ class AllPrograms(unittest.TestCase):
                     code //= 2 ** len(row)
                 wanted.add(table_of_terms(shape, rows))
             self.assertEqual(reached(name, shape), wanted, name)
+            self.assertEqual(len(wanted), count_functions(name, shape))
 
 
 class DrawnPrograms(unittest.TestCase):
@@ -172,6 +182,84 @@ class DrawnPrograms(unittest.TestCase):
     def test_some_set_always_computes(self):
         for shape in SHAPES:
             self.assertIn("any both", sets_for(shape, scattered_table(shape, 3)))
+
+
+class WholeProgram(unittest.TestCase):
+    def drawn_tables(self, shape):
+        """Return tables of a shape: some made for no set, and for each set one that fits and two that do in part."""
+        tables = general_tables(shape)
+        for k, name in enumerate(NAMES):
+            tables += [fitting_table(name, shape, k), bent_tables(name, shape, k)[k % 7]]
+            tables.append(flipped(fitting_table(name, shape, 50 + k), k % len(tables[0]), k % shape[0]))
+        return tables
+
+    def either(self, name, shape, table):
+        """Check that there is either a program or evidence, and return what there is."""
+        evidence = evidence_against(name, shape, table)
+        try:
+            program = program_for(name, shape, table)
+        except NotComputed as error:
+            self.assertIs(shows_against(name, shape, table, evidence), True)
+            self.assertIs(bit_fits(name, shape, table, error.value), False)
+            self.assertIs(computes(name, shape, table), False)
+            return None, evidence
+        self.assertIsNone(evidence)
+        self.assertIs(computes(name, shape, table), True)
+        self.assertIs(is_program(shape, program) and is_of(name, program), True)
+        self.assertEqual(table_of(shape, program), table)
+        return program, None
+
+    def test_either_a_program_or_evidence(self):
+        for shape in SHAPES:
+            tables = self.drawn_tables(shape)
+            if shape[0] * shape[1] > 5:
+                tables = tables[shape[0]::6]
+            if shape[0] * shape[1] == 8:
+                tables = tables[:4]
+            for table in tables:
+                for name in NAMES:
+                    program, evidence = self.either(name, shape, table)
+                    self.assertNotEqual(program is None, evidence is None)
+
+    def test_formats_sessions_and_expressions(self):
+        for shape in ((1, 2), (2, 2), (3, 1), (1, 4), (2, 3)):
+            for table in self.drawn_tables(shape)[shape[0]::4]:
+                self.assertEqual(parse_table(shape, format_table(table)), table)
+                for name in NAMES[len(set(table)) % 3::3]:
+                    program, evidence = self.either(name, shape, table)
+                    if program is not None and len(program) <= 400:
+                        self.assertEqual(parse_program(shape, format_program(program)), program)
+                        self.check_session(shape, program)
+                        self.check_expression(shape, program)
+
+    def check_session(self, shape, program):
+        """Check that a session that is given a program line by line answers as the functions do."""
+        session = Session(shape)
+        session.run("load any-both reversed")
+        session.run("undo")
+        for line in format_program(program).split("\n"):
+            session.run(line)
+        self.assertEqual(session.program, program)
+        table = table_of(shape, program)
+        self.assertEqual(session.run("table"), format_table(table))
+        names = [name.replace(" ", "-") for name in sets_for(shape, table)]
+        self.assertEqual(session.run("sets"), " ".join(names))
+        for name in NAMES:
+            word = name.replace(" ", "-")
+            self.assertEqual(session.run(f"bits {word}"), str(given_bits(name, shape, table)))
+            evidence = evidence_against(name, shape, table)
+            answer = session.run(f"why {word}")
+            self.assertEqual(answer, "none" if evidence is None else format_evidence(evidence))
+
+    def check_expression(self, shape, program):
+        """Check that an expression that is led along a program has its table, by a program of the same words."""
+        expression = led_along(shape, program)[-1]
+        self.assertEqual(expression.table, table_of(shape, program))
+        self.assertIs(is_program(shape, expression.program), True)
+        self.assertEqual(table_of(shape, expression.program), expression.table)
+        words = {step[0] for step in program}
+        self.assertTrue({step[0] for step in expression.program} <= words | {"const", "mask"})
+        self.assertTrue(all(word in words for word in FORMS if word in expression))
 
 
 if __name__ == "__main__":

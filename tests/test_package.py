@@ -8,7 +8,7 @@ import unittest
 
 FOLDER = os.path.join(os.path.dirname(os.path.dirname(os.path.abspath(__file__))), "wordreach")
 
-# Each function of the interface that has landed, with its arguments; those behind a * are passed by name alone.
+# Each function of the interface, with its arguments; those behind a * are passed by name alone.
 FUNCTIONS = {
     "tables": {
         "is_shape": ("value",),
@@ -65,6 +65,40 @@ FUNCTIONS = {
         "tree_for": ("shape", "term", "place"),
         "shows_tree": ("shape", "term", "place", "value"),
     },
+    "counting": {
+        "count_terms": ("name", "shape", "place"),
+        "count_monotone": ("bits",),
+        "count_functions": ("name", "shape"),
+    },
+    "expressions": {
+        "input_words": ("shape",),
+        "constant": ("shape", "word"),
+    },
+    "formats": {
+        "format_program": ("program",),
+        "format_table": ("table",),
+        "format_evidence": ("evidence",),
+        "parse_program": ("shape", "text"),
+        "parse_table": ("shape", "text"),
+    },
+}
+
+# Each class of the interface but the errors, with its methods by name and their arguments, and its properties.
+CLASSES = {
+    "expressions": {
+        "Expression": (
+            {"lies_in": ("self", "b"), "__call__": ("self", "words")}, ("shape", "table", "program"),
+        ),
+    },
+    "session": {
+        "Session": ({"run": ("self", "command"), "history": ("self",)}, ("shape", "program")),
+    },
+}
+
+# The operators of expressions, each with one other operand or none.
+OPERATORS = {
+    2: "and rand or ror xor rxor add radd sub rsub mul rmul lshift rshift eq getitem contains".split(),
+    1: "invert bool".split(),
 }
 
 
@@ -103,6 +137,36 @@ class Interface(unittest.TestCase):
             kind = inspect.Parameter.KEYWORD_ONLY if name in by_name else inspect.Parameter.POSITIONAL_OR_KEYWORD
             self.assertIs(parameter.kind, kind, name)
             self.assertIs(parameter.default, inspect.Parameter.empty, name)
+
+
+class Classes(unittest.TestCase):
+    def test_methods_and_properties(self):
+        for module, classes in CLASSES.items():
+            found = importlib.import_module("wordreach." + module)
+            for name, (methods, properties) in classes.items():
+                kind = getattr(found, name)
+                self.assertEqual(kind.__module__, "wordreach." + module)
+                # What the document lists stands in the class itself, not in a base class.
+                for method, arguments in methods.items():
+                    self.assertEqual(tuple(inspect.signature(vars(kind)[method]).parameters), arguments)
+                for attribute in properties:
+                    self.assertIsInstance(vars(kind)[attribute], property)
+                    self.assertIsNone(vars(kind)[attribute].fset)
+
+    def test_operators(self):
+        kind = importlib.import_module("wordreach.expressions").Expression
+        for many, words in OPERATORS.items():
+            for word in words:
+                self.assertEqual(len(inspect.signature(vars(kind)[f"__{word}__"]).parameters), many, word)
+        # A move has no other side.
+        self.assertFalse(hasattr(kind, "__rlshift__") or hasattr(kind, "__rrshift__"))
+
+    def test_arguments_of_a_session(self):
+        parameters = inspect.signature(importlib.import_module("wordreach.session").Session).parameters
+        self.assertEqual(tuple(parameters), ("shape", "most"))
+        self.assertIs(parameters["shape"].kind, inspect.Parameter.POSITIONAL_OR_KEYWORD)
+        self.assertIs(parameters["most"].kind, inspect.Parameter.KEYWORD_ONLY)
+        self.assertEqual(parameters["most"].default, 400)
 
 
 class Files(unittest.TestCase):

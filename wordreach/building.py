@@ -18,14 +18,14 @@ class Bench:
         self.joiner = "or" if self.family == "monotone" else "xor"
         self.word_shape = shape
         self.steps = []
-        self.numbers = {}
+        self.known = {}
 
     def value_of(self, *step):
         """Return the number of the value of an instruction, which is appended unless it is there already."""
-        if step not in self.numbers:
-            self.numbers[step] = self.word_shape[1] + len(self.steps)
+        if step not in self.known:
+            self.known[step] = self.word_shape[1] + len(self.steps)
             self.steps.append(step)
-        return self.numbers[step]
+        return self.known[step]
 
     def moved(self, number, word, places):
         """Return the number of a value moved by so many places."""
