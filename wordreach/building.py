@@ -123,7 +123,8 @@ def switched(bench, switch, number):
 def product_sum(bench, table):
     """Return the number of a value with the results of a table that fits, joined from products of input bits."""
     parts = []
-    for switch, words in masks_for(bench, table).items():
+    masks = masks_for(bench, table)
+    for switch, words in masks.items():
         masked = [bench.value_of("mask", number, word) for number, word in words.items()]
         parts.append(switched(bench, switch, bench.joined(masked)))
     return bench.joined(parts)
